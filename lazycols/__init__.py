@@ -1,0 +1,1 @@
+"""Lazycols: tables that reckon only what is looked at."""
