@@ -81,9 +81,7 @@ class Table:
         if self.many() >= MOST_ROWS:
             raise TooMuch("a table has at most 30 rows")
         check_row(values, self.columns())
-        for column in self.columns():
-            self.kept[column].insert(place, values[column])
-        self.row_numbers.insert(place, self.fresh_number)
+        self.stand(place, self.fresh_number, values)
         # The number is spent for good: a row taken out leaves it to no other row.
         self.fresh_number = self.fresh_number + 1
 
@@ -92,6 +90,20 @@ class Table:
         for column in self.columns():
             self.kept[column].pop(place)
         self.row_numbers.pop(place)
+
+    # A row that was taken out may stand again, with the number that it had: so the number is told here.
+    def stand(self, place, number, values):
+        for column in self.columns():
+            self.kept[column].insert(place, values[column])
+        self.row_numbers.insert(place, number)
+
+    def number_at(self, place):
+        check_place(place, self.many())
+        return self.row_numbers[place]
+
+    def row_at(self, place):
+        check_place(place, self.many())
+        return dict([(column, self.kept[column][place]) for column in self.kept])
 
     # No column stands by what is no name; asked first, as not all things can be keys of a dict.
     def check_column(self, column):

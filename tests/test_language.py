@@ -24,6 +24,11 @@ BARRED_NAMES = """register mro elements open input version_info with_traceback a
 breakpoint builtins compile copyright credits delattr dir eval exec exit gc getattr globals hasattr help id importlib
 license locals methodcaller os quit setattr super vars sys chr""".split()
 DUNDERS = ["__init__", "__eq__", "__repr__", "__str__", "__len__"]
+WALKS = ["zip", "enumerate", "reversed", "range", "items", "keys", "values"]
+WALKERS = "list tuple dict sorted sum any all enumerate zip min max join".split()
+CHANGING = "append clear extend insert pop remove reverse setdefault update".split()
+KEYWORDS = {"sorted": ["key", "reverse"], "min": ["key", "default"], "max": ["key", "default"], "sum": ["start"],
+            "enumerate": ["start"], "zip": ["strict"]}
 OWN_VALUES = "count index title find get join lower upper split strip copy add".split()
 
 STATEMENTS = (
@@ -63,6 +68,26 @@ def drawn(tree):
 
 def methods_of(kind):
     return [node.name for node in kind.body if isinstance(node, ast.FunctionDef)]
+
+
+def with_parents(path):
+    """Pairs of a node and the one right above it."""
+    return [(node, above) for above in ast.walk(tree_of(path)) for node in ast.iter_child_nodes(above)]
+
+
+def called_name(node):
+    """The name or the method that a call calls; of anything else nothing."""
+    if isinstance(node, ast.Call) and isinstance(node.func, ast.Name):
+        return node.func.id
+    return node.func.attr if isinstance(node, ast.Call) and isinstance(node.func, ast.Attribute) else None
+
+
+def changes_of(loop):
+    """The texts of what the body of a loop changes, by a method or an index."""
+    nodes = [node for row in loop.body for node in ast.walk(row)]
+    dotted = [node.func for node in nodes if called_name(node) in CHANGING and isinstance(node.func, ast.Attribute)]
+    stored = [node for node in nodes if isinstance(node, ast.Subscript) and isinstance(node.ctx, ast.Store)]
+    return [ast.unparse(node.value) for node in dotted + stored]
 
 
 class Language(unittest.TestCase):
@@ -177,6 +202,49 @@ class Language(unittest.TestCase):
                 self.assertLessEqual(len(rows), 400)
                 self.assertLessEqual(max(len(row) for row in rows), 120)
         self.never(lambda function: function.end_lineno - function.lineno >= 40, ast.FunctionDef)
+
+    def test_l13_lambdas(self):
+        for path in files():
+            found = [(node.lineno, ast.unparse(node.args)) for node in nodes_of(path, ast.Lambda)]
+            with self.subTest(file=path.name):
+                self.assertEqual(len(found), len(set(found)))
+
+    def test_l22_keywords(self):
+        self.never(lambda node: [
+            given.arg for given in node.keywords if given.arg not in KEYWORDS.get(called_name(node), [])], ast.Call)
+
+    def test_l23_walked_at_once(self):
+        for path in files():
+            for node, above in with_parents(path):
+                if called_name(node) in WALKS:
+                    walked = isinstance(above, (ast.For, ast.comprehension)) and above.iter == node
+                    with self.subTest(file=path.name, line=node.lineno):
+                        self.assertTrue(walked or called_name(above) in WALKERS and above.args[0] == node)
+
+    def test_l23_nothing_walked_is_changed(self):
+        self.never(lambda loop: ast.unparse(loop.iter) in changes_of(loop), ast.For)
+
+    def test_l24_sets(self):
+        for path in files():
+            for node, above in with_parents(path):
+                if called_name(node) in ("set", "frozenset"):
+                    with self.subTest(file=path.name, line=node.lineno):
+                        self.assertTrue(isinstance(above, (ast.Compare, ast.BinOp)) or called_name(above) in ("len", "sorted"))
+
+    def test_l25_methods_are_not_handed_on(self):
+        kinds = [kind for path in files() for kind in nodes_of(path, ast.ClassDef)]
+        methods = set(METHODS) | {name for kind in kinds for name in methods_of(kind)}
+        for path in files():
+            stored = [node for node in nodes_of(path, ast.Attribute) if isinstance(node.ctx, ast.Store)]
+            for node, above in with_parents(path):
+                if isinstance(node, ast.Attribute) and node.attr in methods - {kept.attr for kept in stored}:
+                    with self.subTest(file=path.name, line=node.lineno, name=node.attr):
+                        self.assertTrue(isinstance(above, ast.keyword) or isinstance(above, ast.Call) and above.func == node)
+
+    def test_l28_init_gives_back_nothing(self):
+        self.never(
+            lambda made: made.name == "__init__" and [node for node in ast.walk(made) if isinstance(node, ast.Return)],
+            ast.FunctionDef)
 
     def test_l15_nothing_given_another_meaning(self):
         for path in files():

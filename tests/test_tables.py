@@ -285,6 +285,35 @@ class RowNumbers(TableTest):
         self.assertEqual(table.numbers()[-1], 30)
 
 
+class StandingAgain(TableTest):
+    """What sheets need of a table to take changes back."""
+
+    def test_the_number_and_the_row_at_a_place(self):
+        table = table_of({"a": [1, 2], "b": [3, ODD]}, 2)
+        table.put_in(1, {"a": 5, "b": 6})
+        self.assertEqual([table.number_at(place) for place in range(3)], [0, 2, 1])
+        self.assertEqual(table.row_at(2), {"a": 2, "b": ODD})
+        table.row_at(2).clear()
+        self.assertEqual(table.row_at(2), {"a": 2, "b": ODD})
+
+    def test_no_place(self):
+        table = table_of({"a": [1, 2]}, 2)
+        for place in no_places(2):
+            self.refused(NoPlace, table, "number_at", place)
+            self.refused(NoPlace, table, "row_at", place)
+
+    def test_a_row_stands_again_with_its_number(self):
+        for place in range(3):
+            table = table_of({"a": [1, 2, 3], "b": [4, 5, 6]}, 3)
+            before = all_of(table)
+            number, row = table.number_at(place), table.row_at(place)
+            table.take_out(place)
+            table.stand(place, number, row)
+            self.assertEqual(all_of(table), before)
+            table.put_in(0, row)
+            self.assertEqual(table.numbers(), [3, 0, 1, 2])
+
+
 class Copies(TableTest):
     def test_values_handed_in(self):
         values = [1, 2]

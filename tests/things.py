@@ -1,4 +1,7 @@
-"""Things of many kinds, to hand in where a refusal or False is told for anything."""
+"""What the tests share: things of many kinds, to hand in where a refusal or False is told for anything; functions that
+note their calls; sheets made in one go."""
+
+from lazycols.sheets import Sheet
 
 SIXTY = 10 ** 60 - 1
 SIXTY_ONE = 10 ** 60
@@ -49,3 +52,48 @@ def no_values():
 def no_places(places):
     """What is no whole number from 0 to below places."""
     return no_wholes() + [-1, -2, -places, -places - 1, places, places + 1, SIXTY_ONE, -SIXTY_ONE]
+
+
+class Notes:
+    """Makes functions that note each list that they are called with."""
+
+    def __init__(self):
+        self.calls = []
+
+    def made(self, label, reckon=sum):
+        def function(some):
+            self.calls.append((label, list(some)))
+            return reckon(some)
+
+        return function
+
+    def taken(self):
+        """The calls since this was asked last, sorted: their order isn't promised."""
+        calls = sorted(self.calls)
+        self.calls.clear()
+        return calls
+
+
+def stands(sheet):
+    """All that a sheet tells without calling a function."""
+    told = []
+    for table in sheet.tables():
+        for column in sheet.columns(table):
+            ruled = sheet.is_ruled(table, column)
+            values = None if ruled else sheet.stretch(table, column, 0, sheet.many(table))
+            told.append((table, column, ruled, values))
+        told.append((table, sheet.many(table)))
+    return told
+
+
+def sheet_of(tables):
+    """A sheet of tables, told as dicts from columns to lists of values or rules."""
+    sheet = Sheet()
+    for name, (many, columns) in tables.items():
+        sheet.table(name, many)
+        for column, content in columns.items():
+            if isinstance(content, list):
+                sheet.give(name, column, content)
+            else:
+                sheet.rule(name, column, content)
+    return sheet
