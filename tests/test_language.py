@@ -90,6 +90,28 @@ def changes_of(loop):
     return [ast.unparse(node.value) for node in dotted + stored]
 
 
+def is_plain(node, functions):
+    """A value as a file's top may hold it: no list and no dict within another thing."""
+    if isinstance(node, (ast.List, ast.Dict)):
+        parts = node.elts if isinstance(node, ast.List) else node.keys + node.values
+        return not [part for part in parts if isinstance(part, (ast.List, ast.Dict)) or not is_plain(part, functions)]
+    if isinstance(node, ast.Tuple):
+        return not [part for part in node.elts if isinstance(part, (ast.List, ast.Dict)) or not is_plain(part, functions)]
+    if isinstance(node, ast.UnaryOp):
+        return isinstance(node.operand, ast.Constant)
+    return isinstance(node, ast.Constant) or isinstance(node, ast.Name) and node.id in functions
+
+
+def is_read(node, above):
+    """A list or dict of a file's top, where it is only read."""
+    if isinstance(above, ast.Subscript):
+        return isinstance(above.ctx, ast.Load) and above.value == node
+    if isinstance(above, ast.Attribute):
+        return above.attr in ("get", "items", "keys", "values", "index", "count")
+    walked = isinstance(above, (ast.For, ast.comprehension)) and above.iter == node
+    return walked or isinstance(above, ast.Compare) or called_name(above) in ("len", "list", "dict", "tuple", "sorted")
+
+
 class Language(unittest.TestCase):
     def never(self, wrong, *kinds):
         """No node of these kinds, in any file, is wrong; those that are get told by file and line."""
@@ -129,10 +151,21 @@ class Language(unittest.TestCase):
             with self.subTest(file=path.name):
                 self.assertEqual(len(names), len(set(names)))
                 self.assertIsNotNone(ast.get_docstring(tree))
+                functions = []
                 for node in tree.body[1:]:
                     self.assertIsInstance(node, (ast.ImportFrom, ast.Assign, ast.FunctionDef, ast.ClassDef))
-                    if isinstance(node, ast.Assign):
-                        ast.literal_eval(node.value)
+                    if isinstance(node, ast.FunctionDef):
+                        functions.append(node.name)
+                    self.assertTrue(not isinstance(node, ast.Assign) or is_plain(node.value, functions), ast.unparse(node))
+
+    def test_l15_tops_are_only_read(self):
+        for path in files():
+            held = [node for node in tree_of(path).body if isinstance(node, ast.Assign)]
+            kept = [node.targets[0].id for node in held if isinstance(node.value, (ast.List, ast.Dict))]
+            for node, above in with_parents(path):
+                if isinstance(node, ast.Name) and isinstance(node.ctx, ast.Load) and node.id in kept:
+                    with self.subTest(file=path.name, line=node.lineno, name=node.id):
+                        self.assertTrue(is_read(node, above))
 
     def test_l4_l21_functions(self):
         def wrong(function):

@@ -3,6 +3,7 @@ tell, and calls just what it should. Told here by a plain model that keeps a cop
 
 import copy
 import random
+import re
 import unittest
 
 from lazycols import rules, views
@@ -39,8 +40,13 @@ def refuse(word, due):
         raise Refused(word)
 
 
+def is_name(word):
+    return re.fullmatch("[a-z]{1,8}", word)
+
+
 class Model:
     def __init__(self):
+        self.functions = dict(FUNCTIONS)
         self.state = {}
         self.past = []
         self.spent = {}
@@ -61,8 +67,8 @@ class Model:
         return self.state[table]
 
     def table(self, name, many):
-        refuse("NoName", name in self.state or name == "T")
-        refuse("NoSize", many > 30)
+        refuse("NoName", name in self.state or not is_name(name))
+        refuse("NoSize", not 0 <= many <= 30)
         refuse("TooMuch", len(self.state) == 4)
         mark = len(self.spent)
         self.keep(mark)
@@ -77,14 +83,14 @@ class Model:
 
     def give(self, table, column, values):
         at = self.of(table)
-        refuse("NoName", column == "A")
+        refuse("NoName", not is_name(column))
         refuse("TooMuch", column not in at["columns"] and len(at["columns"]) == 8)
         refuse("NoValue", len(values) != len(at["rows"]))
         self.set_column(table, column, dict(zip(at["rows"], values)))
 
     def rule(self, table, column, rule):
         at = self.of(table)
-        refuse("NoName", column == "A")
+        refuse("NoName", not is_name(column))
         refuse("TooMuch", column not in at["columns"] and len(at["columns"]) == 8)
         for other, name in self.leans(table, rule):
             there = other in self.state and name in self.state[other]["columns"]
@@ -196,7 +202,7 @@ class Model:
     def called(self, name, mark, numbers):
         if mark not in self.memory or self.memory[mark][0] != numbers:
             self.calls.append((name, numbers))
-            told = FUNCTIONS[name](numbers)
+            told = self.functions[name](numbers)
             right = is_fault(told) or isinstance(told, int) and abs(told) < 10 ** 60
             self.memory[mark] = (numbers, told if right else ODD)
         return self.memory[mark][1]

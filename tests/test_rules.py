@@ -2,7 +2,7 @@ import unittest
 
 from lazycols.errors import NoName, NoValue
 from lazycols.rules import Above, Cells, Group, Lookup, Mend, Rule
-from things import SIXTY, SIXTY_ONE, no_names, no_values
+from things import SIXTY, SIXTY_ONE, Board, RuleTest, no_names, no_values
 
 BAD = ("fault", "bad")
 ILL = ("fault", "ill")
@@ -13,37 +13,6 @@ SIX = ["a", "b", "c", "d", "e", "f"]
 
 def never(some):
     raise RuntimeError("no look calls a function")
-
-
-class Board:
-    """Tables of columns, that note each look in turn."""
-
-    def __init__(self, tables, rows):
-        self.tables = tables
-        self.rows = rows
-        self.looks = []
-
-    def look(self, table, column, place):
-        self.looks.append((table, column, place))
-        if place < 0:
-            raise IndexError("no cell stands ahead of place 0")
-        return self.tables[table][column][place]
-
-    def many(self, table):
-        return self.rows[table]
-
-
-class RuleTest(unittest.TestCase):
-    def gathers(self, rule, board, place, told, looks):
-        """In table t, for a cell of column x: what is told, and just which looks, in their order."""
-        board.looks = []
-        found = rule.gather(board.look, board.many, "t", "x", place)
-        self.assertIsInstance(found, tuple)
-        self.assertEqual(found, told)
-        self.assertEqual(board.looks, looks)
-
-    def in_t(self, *looks):
-        return [("t", column, place) for column, place in looks]
 
 
 class Making(RuleTest):

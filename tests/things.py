@@ -1,5 +1,7 @@
 """What the tests share: things of many kinds, to hand in where a refusal or False is told for anything; functions that
-note their calls; sheets made in one go."""
+note their calls; tables that note looks; sheets made in one go."""
+
+import unittest
 
 from lazycols.sheets import Sheet
 
@@ -23,6 +25,29 @@ def neither():
     return [
         None, True, False, 0.0, 1.0, 1.5, float("nan"), float("inf"), 1j, b"a", bytearray(b"a"),
         object(), Prickly(), len, int, str, {1}, frozenset("a"), range(3), iter([1]), ValueError("a"), ...,
+    ]
+
+
+def no_texts():
+    right = "cells 1"
+    return neither() + [0, 1, -1, SIXTY_ONE, right.encode(), (), (right,), [], [right], list(right), {}, {right: right}]
+
+
+def written_numbers():
+    """Words that write numbers, with these."""
+    numbers = [0, 1, -1, 7, 10, -10, 100, 102, 10 ** 59, -(10 ** 59), SIXTY, -SIXTY]
+    written = {"0": 0, "-7": -7, "1" + "0" * 59: 10 ** 59, "9" * 60: SIXTY, "-" + "9" * 60: -SIXTY}
+    return {**{str(number): number for number in numbers}, **written}
+
+
+def unwritten_numbers():
+    """Words without blanks that write no number."""
+    return [
+        "", "-", "-0", "00", "000", "01", "-01", "-00", "0" * 60, "0" + "1" * 59, "+1", "+0", "+", "--1", "1-", "-1-",
+        "1" + "0" * 60, "9" * 61, "-1" + "0" * 60, "-" + "9" * 61, "1" * 100, "1" * 2000,
+        "1.0", "1.", "1,0", "1_0", "1e1", "0x1", "0b1", "1a", "a1", "-a", "!1", "\"1\"", "(1)", "[]", "None", "True",
+        "1\n", "\n1", "1\t", "\t1", "1\r", "\x0b1", "1\x0c", "1\x1c", "1\x00", "\u00a01", "1\u2003", "\u20281",
+        "\uff11", "\u0661", "1\u0661", "\u00b2", "\u00bd", "\u2460", "\u22121", "\u20131", "1\u0301", "\U0001d7cf",
     ]
 
 
@@ -97,3 +122,34 @@ def sheet_of(tables):
             else:
                 sheet.rule(name, column, content)
     return sheet
+
+
+class Board:
+    """Tables of columns, that note each look in turn."""
+
+    def __init__(self, tables, rows):
+        self.tables = tables
+        self.rows = rows
+        self.looks = []
+
+    def look(self, table, column, place):
+        self.looks.append((table, column, place))
+        if place < 0:
+            raise IndexError("no cell stands ahead of place 0")
+        return self.tables[table][column][place]
+
+    def many(self, table):
+        return self.rows[table]
+
+
+class RuleTest(unittest.TestCase):
+    def gathers(self, rule, board, place, told, looks):
+        """In table t, for a cell of column x: what is told, and just which looks, in their order."""
+        board.looks = []
+        found = rule.gather(board.look, board.many, "t", "x", place)
+        self.assertIsInstance(found, tuple)
+        self.assertEqual(found, told)
+        self.assertEqual(board.looks, looks)
+
+    def in_t(self, *looks):
+        return [("t", column, place) for column, place in looks]
